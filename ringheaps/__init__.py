@@ -1,0 +1,1 @@
+"""Ringheaps: tokens on one-way roads that may lead round."""
