@@ -80,3 +80,10 @@ class Ground:
 
     def rows(self):
         return [(name, tuple(self.roads[name])) for name in self.order]
+
+
+def is_dict_of_places(ground, thing):
+    order = ground.names()
+    if not isinstance(thing, dict) or len(thing) != len(order):
+        return False
+    return all([name in thing for name in order])

@@ -1,60 +1,23 @@
-import copy
 import unittest
 
-from refusals import NO_NAMES, RefusalCase
+from helper import NO_NAMES, ROWS_OF_GROUNDS, RefusalCase, in_order, rows_with
 from ringheaps.errors import NoGround, NoPlace, TooMany, Twice
 from ringheaps.ground import Ground
-
-LETTERS = "abcdefghijklmnopqrstuvwxyz"
-
-
-def rows_with(places, roads):
-    """Rows of so many places and roads: first one from each place to itself, then one to the next, and so on."""
-    ends = [[] for letter in LETTERS[:places]]
-    for number in range(roads):
-        place = number % places
-        ends[place].append(LETTERS[(place + number // places) % places])
-    return [(LETTERS[place], tuple(ends[place])) for place in range(places)]
-
-
-def in_order(rows):
-    """The rows with all names to which roads lead in the order of the places."""
-    order = [name for name, ends in rows]
-    return [(name, tuple(sorted(ends, key=order.index))) for name, ends in rows]
-
-
-GROUNDS = [
-    [("a", ())],
-    [("a", ("a",))],
-    [("abcdefgh", ("abcdefgh",))],
-    [("a", ("a", "b")), ("b", ())],
-    [("b", ("a", "b")), ("a", ("a", "b"))],
-    [("z", ("m", "a", "z")), ("a", ("z", "m")), ("m", ("a",))],
-    [("c", ("b",)), ("b", ("a",)), ("a", ("c",))],
-    [("one", ("three", "two")), ("two", ("three",)), ("three", ()), ("four", ("one", "four"))],
-    [("a", ("aa", "aaa")), ("aaa", ("a",)), ("aa", ("aaa", "aa", "a"))],
-    rows_with(14, 0),
-    rows_with(14, 14),
-    rows_with(14, 39),
-    rows_with(14, 40),
-    rows_with(7, 40),
-    rows_with(6, 36),
-]
 
 
 class MadeGrounds(unittest.TestCase):
     def test_names_in_the_places_order(self):
-        for rows in GROUNDS:
+        for rows in ROWS_OF_GROUNDS:
             self.assertEqual(Ground(rows).names(), [name for name, ends in rows])
 
     def test_roads_in_the_places_order(self):
-        for rows in GROUNDS:
+        for rows in ROWS_OF_GROUNDS:
             ground = Ground(rows)
             for name, ends in in_order(rows):
                 self.assertEqual(ground.roads_from(name), list(ends))
 
     def test_rows_with_roads_in_the_places_order(self):
-        for rows in GROUNDS:
+        for rows in ROWS_OF_GROUNDS:
             self.assertEqual(Ground(rows).rows(), in_order(rows))
 
     def test_a_ground_by_hand(self):
@@ -66,12 +29,12 @@ class MadeGrounds(unittest.TestCase):
         self.assertEqual(ground.rows(), [("z", ("z", "a", "m")), ("a", ("z", "m")), ("m", ("a",))])
 
     def test_the_order_in_which_roads_are_handed_in_is_free(self):
-        for rows in GROUNDS:
+        for rows in ROWS_OF_GROUNDS:
             turned = [(name, tuple(reversed(ends))) for name, ends in rows]
             self.assertEqual(Ground(turned).rows(), Ground(rows).rows())
 
     def test_a_ground_of_told_rows_tells_the_same(self):
-        for rows in GROUNDS:
+        for rows in ROWS_OF_GROUNDS:
             told = Ground(rows).rows()
             self.assertEqual(Ground(told).rows(), told)
 
@@ -92,7 +55,7 @@ class NoPlaces(RefusalCase):
             self.assert_refused(NoPlace, thing, ground.roads_from, thing)
 
     def test_a_name_of_no_place(self):
-        for rows in GROUNDS:
+        for rows in ROWS_OF_GROUNDS:
             ground = Ground(rows)
             for name in ("o", "zz", "aaaa", "hgfedcba"):
                 self.assert_refused(NoPlace, name, ground.roads_from, name)
@@ -100,9 +63,7 @@ class NoPlaces(RefusalCase):
 
 class RefusedRows(RefusalCase):
     def refuse(self, kind, field, rows):
-        before = copy.deepcopy(rows)
         self.assert_refused(kind, field, Ground, rows)
-        self.assertEqual(rows, before)
 
     def test_what_is_no_list(self):
         for thing in (None, True, False, 0, 5, -10 ** 99, "", "a", "a: a", (), (("a", ()),), {}, {"a": ()}, {0: ("a", ())}):
@@ -202,7 +163,7 @@ class OwnValues(RefusalCase):
         self.assert_refused(NoPlace, "b", ground.roads_from, "b")
 
     def test_what_is_handed_in_is_not_changed(self):
-        for rows in GROUNDS:
+        for rows in ROWS_OF_GROUNDS:
             handed = list(rows)
             ground = Ground(handed)
             ground.names()

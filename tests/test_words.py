@@ -1,6 +1,6 @@
 import unittest
 
-from refusals import NO_NAMES
+from helper import NO_NAMES
 from ringheaps.words import is_name, is_whole
 
 NO_NUMBERS = [
