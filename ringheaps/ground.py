@@ -82,6 +82,11 @@ class Ground:
         return [(name, tuple(self.roads[name])) for name in self.order]
 
 
+def need_place(ground, thing):
+    if thing not in ground.names():
+        raise NoPlace(thing)
+
+
 def is_dict_of_places(ground, thing):
     order = ground.names()
     if not isinstance(thing, dict) or len(thing) != len(order):

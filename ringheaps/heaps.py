@@ -1,6 +1,7 @@
 """Heaps of tokens on a ground, and their moves."""
 
-from ringheaps.errors import NoHeap, NoMove, NoPlace, TooMany
+from ringheaps.errors import NoHeap, NoMove, TooMany
+from ringheaps.ground import need_place
 from ringheaps.words import is_whole
 
 MOST_TOKENS = 8
@@ -11,10 +12,8 @@ def need_heap(ground, heap):
         raise NoHeap(heap)
     if len(heap) > MOST_TOKENS:
         raise TooMany(len(heap))
-    order = ground.names()
     for thing in heap:
-        if thing not in order:
-            raise NoPlace(thing)
+        need_place(ground, thing)
 
 
 def moves_of(ground, heap):

@@ -78,25 +78,47 @@ def all_grounds(places):
         yield Ground([(name, tuple(end for start, end in roads if start == name)) for name in LETTERS[:places]])
 
 
-def mixed_grounds(many):
-    """So many grounds of 4 to 14 places, the same ones each time, with few roads and with many."""
+def mixed_grounds(many, stair=0):
+    """So many grounds of 4 to 14 places, the same ones each time, with few roads and with many.
+
+    The first places, as many as stair tells, are those of stairs.
+    """
     state = 1
     for number in range(many):
-        places = 4 + number % 11
-        ends = [[] for letter in LETTERS[:places]]
-        for step in range(places + number % 27):
+        places = 4 + stair + number % (11 - stair)
+        rows = stairs(stair)
+        ends = [[] for letter in LETTERS[stair:places]]
+        for step in range(min(places + number % 27, 40 - stair * (stair - 1) // 2)):
             state = (state * 1103515245 + 12345) % 2 ** 31
-            start = state // 2 ** 8 % places
+            start = state // 2 ** 8 % len(ends)
             end = LETTERS[state // 2 ** 16 % places]
             if end not in ends[start]:
                 ends[start].append(end)
-        yield Ground([(LETTERS[place], tuple(ends[place])) for place in range(places)])
+        yield Ground(rows + [(LETTERS[stair + start], tuple(ends[start])) for start in range(len(ends))])
 
 
 def turned_round(ground):
     """The ground of the same names in the same order in which each road leads the other way."""
     rows = ground.rows()
     return Ground([(name, tuple(start for start, ends in rows if name in ends)) for name, ends in rows])
+
+
+def with_other_names(table):
+    """The table with a name less, with one more, and with another thing for a name."""
+    for name in table:
+        less = {other: entry for other, entry in table.items() if other != name}
+        yield less
+        for key in ("zz", "", None, 0, True, (), (name,), name.upper()):
+            yield {**less, key: table[name]}
+            yield {**table, key: table[name]}
+
+
+class ShownCase(unittest.TestCase):
+    def assert_answer(self, answer, ask, ground, thing):
+        """ask(ground, thing) is this very truth, and the thing stays as it is."""
+        before = copy.deepcopy(thing)
+        self.assertIs(ask(ground, thing), answer, (ground.rows(), thing))
+        self.assertEqual(thing, before)
 
 
 class RefusalCase(unittest.TestCase):

@@ -19,9 +19,11 @@ WRITTEN = [
 
 NO_LINES = [
     "", " ", ":", " :", "a", "a b", "ab", ": a", ":a",
-    "a :", "a : a", " a:", " a: a", "a: ", "a:  ", "a: a ", "a:  a", "a: a  a", "a:a", "a:a a", "a: a:", "a::", "a:: a",
+    "a :", "a : a", " a:", " a: a", "a: ", "a:  ", "a: a ", "a:  a", "a: a  a", "a:a", "a:a a", "a: a:", "a::",
+    "a:: a",
     "a: :", "a: a: a", "a:a:a", "a: a:a", "a: a, a", "a: a;", "a; a", "a. a", "a, a",
-    "A:", "aB: a", "a: A", "a: aB", "a1:", "1: a", "a: 1", "a: a a2", "a_a:", "a: a_a", "a-a:", "a: a-a", "{a}:", "a: `",
+    "A:", "aB: a", "a: A", "a: aB", "a1:", "1: a", "a: 1", "a: a a2", "a_a:", "a: a_a", "a-a:", "a: a-a", "{a}:",
+    "a: `",
     "abcdefghi:", "abcdefghi: a", "a: abcdefghi", "a: a abcdefghi", "a: " + "z" * 1000, "a: a\t",
 ]
 

@@ -1,10 +1,9 @@
-import copy
 import itertools
 import unittest
 
 from helper import (
-    LETTERS, NO_NAMES, ROWS_OF_GROUNDS, RefusalCase, all_grounds, ladder, mixed_grounds, ring, rows_with, stairs,
-    turned_round,
+    LETTERS, NO_NAMES, ROWS_OF_GROUNDS, RefusalCase, ShownCase, all_grounds, ladder, mixed_grounds, ring, rows_with,
+    stairs, turned_round, with_other_names,
 )
 from ringheaps.errors import NoPlace
 from ringheaps.ground import Ground
@@ -131,19 +130,14 @@ class Tables(unittest.TestCase):
                 self.assertIs(type(entry[1]), type(None) if entry[0] == "drawn" else int)
 
 
-class TablesThatShowThemselves(unittest.TestCase):
-    def assert_shows(self, answer, ground, thing):
-        before = copy.deepcopy(thing)
-        self.assertIs(shows_single(ground, thing), answer, (ground.rows(), thing))
-        self.assertEqual(thing, before)
-
+class TablesThatShowThemselves(ShownCase):
     def test_the_told_table_shows_itself(self):
         for ground in many_grounds():
-            self.assert_shows(True, ground, table_of(ground))
+            self.assert_answer(True, shows_single, ground, table_of(ground))
 
     def test_the_order_of_the_names_is_free(self):
         for text, table, best in BY_HAND:
-            self.assert_shows(True, read_ground(text), dict(reversed(list(table.items()))))
+            self.assert_answer(True, shows_single, read_ground(text), dict(reversed(list(table.items()))))
 
     def test_no_other_table_of_two_or_three_places(self):
         grounds = list(all_grounds(2)) + list(itertools.islice(all_grounds(3), 0, None, 11))
@@ -159,43 +153,37 @@ class TablesThatShowThemselves(unittest.TestCase):
             ground = read_ground(text)
             for name, entry in table.items():
                 for other in others_of(entry):
-                    self.assert_shows(False, ground, {**table, name: other})
+                    self.assert_answer(False, shows_single, ground, {**table, name: other})
 
     def test_a_name_more_or_less(self):
         for text, table, best in BY_HAND:
-            ground = read_ground(text)
-            for name in table:
-                less = {other: entry for other, entry in table.items() if other != name}
-                self.assert_shows(False, ground, less)
-                for key in ("zz", "", None, 0, True, (), (name,), name.upper()):
-                    self.assert_shows(False, ground, {**less, key: table[name]})
-                    self.assert_shows(False, ground, {**table, key: table[name]})
-                    self.assert_shows(False, ground, {**table, key: DRAWN})
+            for thing in with_other_names(table):
+                self.assert_answer(False, shows_single, read_ground(text), thing)
 
     def test_tables_in_which_all_is_drawn(self):
         for ground in many_grounds():
             drawn = {name: DRAWN for name in ground.names()}
-            self.assert_shows(table_of(ground) == drawn, ground, drawn)
+            self.assert_answer(table_of(ground) == drawn, shows_single, ground, drawn)
 
     def test_numbers_that_feed_on_themselves(self):
         ground = Ground(ring(2))
         for number in (0, 1, 2, 10 ** 99):
-            self.assert_shows(False, ground, {"a": ("won", number + 1), "b": ("lost", number)})
-            self.assert_shows(False, ground, {"a": ("won", number), "b": ("lost", number)})
-            self.assert_shows(False, ground, {"a": ("lost", number + 1), "b": ("won", number)})
+            self.assert_answer(False, shows_single, ground, {"a": ("won", number + 1), "b": ("lost", number)})
+            self.assert_answer(False, shows_single, ground, {"a": ("won", number), "b": ("lost", number)})
+            self.assert_answer(False, shows_single, ground, {"a": ("lost", number + 1), "b": ("won", number)})
 
     def test_what_is_no_dict(self):
         for ground in (Ground([("a", ())]), Ground(ring(3)), Ground(rows_with(14, 40))):
             for thing in NO_NAMES + ["a", "lost", ("lost", 0), ("drawn", None), [("a", ("lost", 0))], ["a", "b", "c"]]:
-                self.assert_shows(False, ground, thing)
+                self.assert_answer(False, shows_single, ground, thing)
             table = table_of(ground)
             for thing in (list(table), list(table.items()), tuple(table.items()), list(table.values())):
-                self.assert_shows(False, ground, thing)
+                self.assert_answer(False, shows_single, ground, thing)
 
     def test_the_table_of_another_ground(self):
         for ground in mixed_grounds(60):
             other = turned_round(ground)
-            self.assert_shows(table_of(ground) == table_of(other), ground, table_of(other))
+            self.assert_answer(table_of(ground) == table_of(other), shows_single, ground, table_of(other))
 
 
 def others_of(entry):
@@ -207,7 +195,8 @@ def others_of(entry):
     others += [(word, near) for near in ((number or 0) - 1, number or 0, (number or 0) + 1, str(number), [number])]
     others += [("drawn", None), ("drawn", 0), ("drawn", False), ("drawn", 1), ("lost", None), ("won", None)]
     others = [other for other in others if repr(other) != repr(entry)]
-    others += [list(entry), (word,), (number,), (word, number, None), (word, number, number), (), (entry,), {word: number}]
+    others += [list(entry), (word,), (number,), (word, number, None), (word, number, number), (), (entry,)]
+    others += [{word: number}]
     others += [word, number, None, True, 0, "", [], {}, (number, word), ((word, number), None), [word]]
     return others
 
