@@ -35,10 +35,14 @@ def is_move(ground, heap, thing):
     return thing in moves_of(ground, heap)
 
 
+def left_by(heap, move):
+    left = list(heap)
+    left[move[0]] = move[1]
+    return left
+
+
 def after(ground, heap, move):
     need_heap(ground, heap)
     if not is_move(ground, heap, move):
         raise NoMove(move)
-    left = list(heap)
-    left[move[0]] = move[1]
-    return left
+    return left_by(heap, move)

@@ -64,12 +64,15 @@ def labels_of(ground):
     return labels
 
 
-def worth_of(ground, name):
-    need_place(ground, name)
-    label = labels_of(ground)[name]
+def label_worth(label):
     if label[0] == "number":
         return Numbered(label[1])
     return Endless(label[1])
+
+
+def worth_of(ground, name):
+    need_place(ground, name)
+    return label_worth(labels_of(ground)[name])
 
 
 def is_label(thing):

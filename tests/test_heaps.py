@@ -1,6 +1,6 @@
 import unittest
 
-from helper import NO_NAMES, ROWS_OF_GROUNDS, RefusalCase, mixed_grounds, ring, turned_round
+from helper import NO_NAMES, ROWS_OF_GROUNDS, RefusalCase, heaps_on, mixed_grounds, ring, turned_round
 from ringheaps.errors import NoHeap, NoMove, NoPlace, TooMany
 from ringheaps.ground import Ground
 from ringheaps.groundtext import read_ground
@@ -49,15 +49,6 @@ NO_MOVES = [
     (0, "a"), (0, "o"), (0, "zz"), (0, ""), (0, "M"), (0, " m"), (0, "m "), (0, None), (0, 0), (0, True),
     (0, ["m"]), (0, ("m",)), (0, {"m": "m"}), (0, []), (1, "m"), (1, "z"), {0: "m"}, {"m": 0},
 ]
-
-
-def heaps_on(ground):
-    """Heaps of none to eight tokens, with several on one place among them."""
-    names = ground.names()
-    for many in range(9):
-        yield [names[number * 5 % len(names)] for number in range(many)]
-        yield [names[number // 3 % len(names)] for number in range(many)]
-        yield [names[-1]] * many
 
 
 class Heaps(unittest.TestCase):

@@ -1,51 +1,20 @@
 import unittest
 
-from helper import NO_NAMES, RefusalCase, ladder, mixed_grounds, ring, turned_round
-from ringheaps.errors import NoHeap, NoMove, NoPlace, TooMany
+from helper import (
+    NO_HEAPS, NO_NAMES, RULES, Player, RefusalCase, by_turns, first_move, ladder, last_move, mixed_grounds, ring,
+    turned_round,
+)
+from ringheaps.errors import NoMove
 from ringheaps.ground import Ground
 from ringheaps.groundtext import read_ground
 from ringheaps.heaps import after, is_over, moves_of
 from ringheaps.plays import played, walk
-
-NO_HEAPS = [
-    (NoHeap, None, None), (NoHeap, True, True), (NoHeap, 3, 3), (NoHeap, "a", "a"), (NoHeap, ("a",), ("a",)),
-    (NoHeap, {"a": "a"}, {"a": "a"}), (TooMany, 9, ["a"] * 9), (TooMany, 12, [None] * 12),
-    (NoPlace, "zz", ["a", "zz", None]), (NoPlace, ["a"], ["a", ["a"]]), (NoPlace, {}, [{}]), (NoPlace, True, [True]),
-]
 
 NO_MOVES = [
     None, True, False, 0, 1, -1, 10 ** 99, "", "b", "0 b", [], {}, (), [0, "b"], [(0, "b")], ((0, "b"),), {0: "b"},
     (0,), ("b",), (0, "b", 0), (False, "b"), (True, "b"), ("0", "b"), (None, "b"), ([], "b"), (-1, "b"), (-2, "b"),
     (2, "b"), (8, "b"), (10 ** 99, "b"), (0, "a"), (0, "zz"), (0, None), (0, ["b"]), (0, {}), (0, 1), ("b", 0),
 ]
-
-
-class Player:
-    """Tells moves by a rule of the heap and of how often it was asked, and keeps the heaps that it was told."""
-
-    def __init__(self, ground, rule):
-        self.ground = ground
-        self.rule = rule
-        self.asked = []
-
-    def tell(self, heap):
-        self.asked.append(list(heap))
-        return self.rule(moves_of(self.ground, heap), len(self.asked) - 1)
-
-
-def first_move(moves, asked):
-    return moves[0]
-
-
-def last_move(moves, asked):
-    return moves[-1]
-
-
-def by_turns(moves, asked):
-    return moves[asked % len(moves)]
-
-
-RULES = [first_move, last_move, by_turns]
 
 
 def never(heap):
