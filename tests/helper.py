@@ -168,6 +168,18 @@ def outcomes_going_back(ground, tokens):
     return outcome
 
 
+def without_rings(ground):
+    """The ground with those roads alone that lead down by a key, which each place has to itself."""
+    names = ground.names()
+    key = {name: (number * 5 + 3) % 17 for number, name in enumerate(names)}
+    return Ground([(name, tuple(end for end in ends if key[end] < key[name])) for name, ends in ground.rows()])
+
+
+def renamed(ground):
+    """The ground with names that no other ground has here."""
+    return Ground([("y" + name[:7], tuple("y" + end[:7] for end in ends)) for name, ends in ground.rows()])
+
+
 def turned_round(ground):
     """The ground of the same names in the same order in which each road leads the other way."""
     rows = ground.rows()
